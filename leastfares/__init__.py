@@ -1,0 +1,1 @@
+"""Journeys priced by the least sum of fares."""

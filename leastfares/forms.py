@@ -27,12 +27,23 @@ NUMBERS = (
     ((1, 10000),),
     ((0, 36524),),
     ((0, 4),),
+    (),
+    ((0, 4), (1, 8), (1, 8)),
+    ((0, 4), (1, 8), (1, 8), (1, 8), (1, 8)),
+    ((0, 4),),
+    ((0, 4),),
+    ((0, 4),),
+    ((0, 4),),
+    (),
+    (),
 )
 
 # For each call with a row, by its place: the fewest and the most numbers of the row,
 # and the ranges of the numbers that come again and again in it.
 ROWS = {
     7: (5, 40, ((0, 675), (0, 17575), (0, 17575), (0, 36524), (0, 25))),
+    9: (5, 5, ((0, 9),)),
+    12: (0, 24, ((0, 8), (0, 999999999), (0, 8))),
 }
 
 

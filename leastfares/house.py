@@ -4,7 +4,10 @@ from leastfares.changes import CHANGES
 from leastfares.forms import is_in_range, read_call
 from leastfares.questions import QUESTIONS
 from leastfares.records import House
-from leastfares.refusals import OUT_OF_RANGE
+from leastfares.refusals import NO_JOURNEY, OUT_OF_RANGE
+
+# The place of the one question that is not about the journey; the others are refused first if there is none.
+FARES_PLACE = 16
 
 
 def answer(house, place, numbers, row):
@@ -12,6 +15,8 @@ def answer(house, place, numbers, row):
         return [OUT_OF_RANGE]
     if place < len(CHANGES):
         return CHANGES[place](house, numbers, row)
+    if house.journey is None and place != FARES_PLACE:
+        return [NO_JOURNEY]
     return QUESTIONS[place - len(CHANGES)](house, numbers, row)
 
 

@@ -4,9 +4,10 @@ GROUPS = 8
 KINDS = 5
 
 
-# Made of the fifteen numbers of the call fare, in their order.
+# Made of the fifteen numbers of the call fare, in their order; they are kept to be told again.
 class Fare:
     def __init__(self, numbers):
+        self.numbers = numbers
         self.key = numbers[0]
         self.carrier = numbers[1]
         self.near = numbers[2]
@@ -24,9 +25,10 @@ class Fare:
         self.most_segments = numbers[14]
 
 
-# Made of the five numbers that a journey's row has for it, in their order.
+# Made of the five numbers that a journey's row has for it, in their order; they are kept to be told again.
 class Segment:
     def __init__(self, numbers):
+        self.numbers = numbers
         self.carrier = numbers[0]
         self.origin = numbers[1]
         self.target = numbers[2]

@@ -1,5 +1,7 @@
 """Returns: two fares for two components, the earlier one out, the later one home."""
 
+from leastfares.components import fits_home, fits_out
+
 NEAR_ENDS_ONLY = 1
 FAR_ENDS_ONLY = 2
 
@@ -20,6 +22,24 @@ def digits_needed(out, home):
 # What a return asks of each of its two fares alike.
 def allows(fare, needed, stay):
     return fare.open_ends & needed == needed and fare.least_stay <= stay <= fare.most_stay
+
+
+def go_together(house, group_out, group_home):
+    return house.together.get((group_out, group_home), False)
+
+
+# All of the home component's segments come after those of the one out.
+def make_return(house, kind, fare_out, out, fare_home, home):
+    needed = digits_needed(out, home)
+    stay = home.day - out.day
+    return (
+        needed is not None
+        and fits_out(fare_out, out, kind)
+        and fits_home(fare_home, home, kind)
+        and allows(fare_out, needed, stay)
+        and allows(fare_home, needed, stay)
+        and go_together(house, fare_out.group, fare_home.group)
+    )
 
 
 # For each group, the least that is paid by a fare of it, and the lowest key by which that is paid.
@@ -47,6 +67,6 @@ def least_return(house, out_offers, home_offers):
     found = []
     for group_out, by_out in outs.items():
         for group_home, by_home in homes.items():
-            if house.together.get((group_out, group_home), False):
+            if go_together(house, group_out, group_home):
                 found.append((by_out[0] + by_home[0], by_out[1], by_home[1]))
     return min(found, default=None)

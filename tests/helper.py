@@ -82,6 +82,51 @@ def price(kind=0):
     return [8, kind]
 
 
+def row_party(row):
+    return [9, len(row)] + list(row)
+
+
+def party(*many):
+    """So many of the first kinds, and nobody of those that aren't named."""
+    return row_party(list(many) + [0] * (5 - len(many)))
+
+
+def singles(first, last, kind=0):
+    return [10, kind, first, last]
+
+
+def pair(first, last, second_first, second_last, kind=0):
+    return [11, kind, first, last, second_first, second_last]
+
+
+def check(*threes, kind=0):
+    return row_check([number for three in threes for number in three], kind)
+
+
+def row_check(row, kind=0):
+    return [12, kind, len(row)] + list(row)
+
+
+def alone(kind=0):
+    return [13, kind]
+
+
+def count(kind=0):
+    return [14, kind]
+
+
+def prefixes(kind=0):
+    return [15, kind]
+
+
+def fares():
+    return [16]
+
+
+def told():
+    return [17]
+
+
 def split(answered):
     """Takes the counts out of what is given back, and sees to it that they are right."""
     found = []

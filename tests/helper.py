@@ -26,6 +26,18 @@ FARE_VALUES = {
 }
 
 
+# Each of these alone makes a fare unfit for kind 2 and a component of two segments by carrier 4 in class 1
+# on day 2, a Monday, if it is bought on day 0.
+SPOILT = (
+    {"carrier": 3},
+    {"classes": 1},
+    {"weekdays": 127 - 1},
+    {"days_ahead": 3},
+    {"most_segments": 1},
+    {"kinds": 31 - 4},
+)
+
+
 def fare(key, a, b, **others):
     values = dict(FARE_VALUES, key=key, a=a, b=b, **others)
     assert list(values) == list(FARE_VALUES), values

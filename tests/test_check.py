@@ -2,8 +2,8 @@
 
 import unittest
 
-from tests.helper import ask, ask_last, check, combine, fare, floor, half, journey, percent, price, route, row_check
-from tests.helper import segment, unfare, unit
+from tests.helper import SPOILT, ask, ask_last, check, combine, fare, floor, half, journey, percent, price, route
+from tests.helper import row_check, segment, unfare, unit
 
 # There and back by two flights each way; each flight has a fare of its own, and the returns 10 and 20.
 FARES = [
@@ -198,26 +198,18 @@ class WrongAloneTest(unittest.TestCase):
 class SuitsTest(unittest.TestCase):
     """Each thing that a fare must suit, for a component by itself (4) and in a return (5)."""
 
-    SPOILT = [
-        {"carrier": 3},
-        {"classes": 1},
-        {"weekdays": 127 - 1},
-        {"days_ahead": 3},
-        {"most_segments": 1},
-        {"kinds": 31 - 4},
-    ]
     FLIGHTS = [segment(1, 2, 2, carrier=4, booking=1), segment(2, 3, 2, carrier=4, booking=1)]
 
     def test_singly(self):
         good = {"carrier": 4, "classes": 2, "weekdays": 1, "days_ahead": 2, "most_segments": 2, "kinds": 4}
-        for other, expected in [({}, [0, 0, 100])] + [(one, [0, 4, 0]) for one in self.SPOILT]:
+        for other, expected in [({}, [0, 0, 100])] + [(one, [0, 4, 0]) for one in SPOILT]:
             with self.subTest(other=other):
                 calls = [fare(1, 1, 3, **{**good, **other}), journey(0, *self.FLIGHTS)]
                 self.assertEqual(ask_last(*calls, check((2, 1, 0), kind=2)), expected)
 
     def test_out_and_home(self):
         back = [segment(3, 2, 9, carrier=4, booking=1), segment(2, 1, 9, carrier=4, booking=1)]
-        spoilt = self.SPOILT + [{"least_stay": 8}, {"most_stay": 6}, {"group": 1}, {"a": 2}, {"b": 2}, {"way": 0}]
+        spoilt = list(SPOILT) + [{"least_stay": 8}, {"most_stay": 6}, {"group": 1}, {"a": 2}, {"b": 2}, {"way": 0}]
         for other, expected in [({}, [0, 0, 200])] + [(one, [0, 5, 0]) for one in spoilt]:
             for out, home in ((other, {}), ({}, other)):
                 if home == {"days_ahead": 3}:

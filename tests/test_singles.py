@@ -2,7 +2,7 @@
 
 import unittest
 
-from tests.helper import ask, ask_last, fare, floor, half, journey, percent, route, segment, singles, unit
+from tests.helper import SPOILT, ask, ask_last, fare, floor, half, journey, percent, route, segment, singles, unit
 
 
 class RefusalTest(unittest.TestCase):
@@ -58,16 +58,8 @@ class FitTest(unittest.TestCase):
                     self.assertEqual(answer, [0, 1, a * b, 10 * a + b])
 
     def test_what_a_fare_suits(self):
-        spoilt = [
-            {"carrier": 3},
-            {"classes": 1},
-            {"weekdays": 127 - 1},
-            {"days_ahead": 3},
-            {"most_segments": 1},
-            {"kinds": 31 - 4},
-        ]
         flights = [segment(1, 2, 2, carrier=4, booking=1), segment(2, 3, 9, carrier=4, booking=1)]
-        for changed in spoilt:
+        for changed in SPOILT:
             with self.subTest(changed=changed):
                 calls = [fare(1, 1, 3, carrier=4, classes=2, weekdays=1, days_ahead=2, most_segments=2, kinds=4)]
                 calls += [fare(2, 1, 3, **changed), journey(0, *flights)]
